@@ -1,0 +1,1 @@
+"""Splitstock: splitting the largest piece and undoing the smallest split."""
