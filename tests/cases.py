@@ -12,6 +12,16 @@ MIXED = [
     ("m", 6, ["s", "s"]),
 ]
 
+
+def chain(size, many):
+    """A catalogue and its names from the atom on: each kind has the one before as parts."""
+    names = [chr(ord("a") + at // 5) + chr(ord("a") + at % 5) for at in range(size)]
+    catalogue = [(names[0], 1, [])]
+    for at in range(1, size):
+        catalogue.append((names[at], at + 1, [names[at - 1]] * many))
+    return catalogue, names
+
+
 # Each entry: what is wrong, the catalogue, the index that is told.
 BAD_CATALOGUES = [
     ("no entry", [], 0),

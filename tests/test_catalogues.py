@@ -4,7 +4,7 @@ import unittest
 
 from splitstock.catalogues import kinds, pieces, total_splits, whole_pieces
 from splitstock.errors import InvalidCatalogue, InvalidSplits, InvalidStock
-from tests.cases import COIN, MIXED, expect, expect_catalogue_check, same
+from tests.cases import COIN, MIXED, chain, expect, expect_catalogue_check, same
 from tests.model import Model, model_total, random_catalogue, random_splits, random_stock, small_cases
 
 BIG = 10 ** 30 - 1
@@ -197,14 +197,11 @@ class TotalTest(unittest.TestCase):
         self.assertEqual(total_splits(COIN, {"m": BIG, "s": BIG, "c": BIG}), 4 * BIG)
 
     def test_twenty_kinds_with_six_parts(self):
-        names = [chr(ord("a") + at) for at in range(20)]
-        catalogue = [(names[0], 1, [])]
-        for at in range(1, 20):
-            catalogue.append((names[at], at + 1, [names[at - 1]] * 6))
-        wanted = BIG * (6 ** 19 - 1) // 5
-        self.assertEqual(total_splits(catalogue, {"t": BIG}), wanted)
+        catalogue, names = chain(20, 6)
+        stock = {names[19]: BIG}
+        self.assertEqual(total_splits(catalogue, stock), BIG * (6 ** 19 - 1) // 5)
         splits = {names[at]: BIG * 6 ** (19 - at) for at in range(1, 20)}
-        same(self, whole_pieces(catalogue, {"t": BIG}, splits), {"a": BIG * 6 ** 19})
+        same(self, whole_pieces(catalogue, stock, splits), {names[0]: BIG * 6 ** 19})
 
     def test_arguments_do_not_change(self):
         catalogue, stock = copy.deepcopy(COIN), {"s": 1, "m": 2, "c": 0}

@@ -4,7 +4,7 @@ import unittest
 
 from splitstock.errors import InvalidNumber, InvalidSplits, InvalidStep, InvalidStock, TooManySteps
 from splitstock.stores import Store
-from tests.cases import COIN, MIXED, expect, expect_catalogue_check, same
+from tests.cases import COIN, MIXED, chain, expect, expect_catalogue_check, same
 from tests.model import Model, model_total, random_catalogue, random_splits, random_stock
 
 BIG = 10 ** 30 - 1
@@ -189,29 +189,24 @@ class StepsTest(unittest.TestCase):
         same(self, store.splits(), {"m": 1})
 
     def test_very_many_steps(self):
-        names = [chr(ord("a") + at) for at in range(20)]
-        catalogue = [("a", 1, [])]
-        for at in range(1, 20):
-            catalogue.append((names[at], at + 1, [names[at - 1]] * 6))
-        store = Store(catalogue, {"t": BIG})
+        catalogue, names = chain(20, 6)
+        first, second, third = names[19], names[18], names[17]
+        store = Store(catalogue, {first: BIG})
         total = BIG * (6 ** 19 - 1) // 5
         store.split(BIG * 7 + 5)
-        same(self, store.splits(), {"t": BIG, "s": 6 * BIG, "r": 5})
+        same(self, store.splits(), {first: BIG, second: 6 * BIG, third: 5})
         store.split(total - BIG * 7 - 5)
         self.assertIsNone(store.next_split())
         expect(self, TooManySteps, 0, store.split, 10 ** 60 - 1)
         expect(self, TooManySteps, total, store.undo, 10 ** 60 - 1)
         store.undo(total - BIG - 3)
-        same(self, store.splits(), {"t": BIG, "s": 3})
+        same(self, store.splits(), {first: BIG, second: 3})
         store.undo(BIG + 3)
         same(self, store.splits(), {})
 
     def test_steps_of_sixty_digits(self):
         # Beyond the bounds of a catalogue, so that so many steps are possible.
-        names = [chr(ord("a") + at // 5) + chr(ord("a") + at % 5) for at in range(29)]
-        catalogue = [(names[0], 1, [])]
-        for at in range(1, 29):
-            catalogue.append((names[at], at + 1, [names[at - 1]] * 12))
+        catalogue, names = chain(29, 12)
         store = Store(catalogue, {names[28]: BIG})
         total = BIG * (12 ** 28 - 1) // 11
         times = total - 1
