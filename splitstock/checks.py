@@ -1,7 +1,8 @@
-"""The checks of stocks and splits, and the forms of dicts of numbers.
+"""The checks of stocks and splits, and dicts of numbers.
 
 Behind checked_table, functions here and in steps.py take a Table instead of a
-catalogue.
+catalogue. Dicts of pieces and of whole pieces have every kind, in the order of
+the table.
 """
 
 from splitstock.errors import InvalidSplits, InvalidStock
@@ -17,40 +18,49 @@ def checked_table(catalogue, stock):
 
 def check_stock(table, stock):
     """Raise InvalidStock for the first wrong name in string order."""
-    for name in sorted(stock):
-        if name not in table.weights or stock[name] < 0:
-            raise InvalidStock(name)
+    wrong = [name for name in stock if name not in table.weights or stock[name] < 0]
+    if wrong:
+        raise InvalidStock(min(wrong))
 
 
-def check_splits(table, stock, splits):
-    """Raise InvalidSplits for an unknown name, then for the largest wrong kind."""
-    for name in sorted(splits):
-        if name not in table.weights:
-            raise InvalidSplits(name)
+def checked_pieces(table, stock, splits):
+    """The pieces of each kind, after the splits check.
+
+    It raises InvalidSplits for an unknown name, then for the largest wrong kind.
+    """
+    unknown = [name for name in splits if name not in table.weights]
+    if unknown:
+        raise InvalidSplits(min(unknown))
+    # Pieces depend on larger kinds only, so those of the first wrong kind are right.
+    pieces = count_pieces(table, stock, splits)
     for name in table.order:
         number = splits.get(name, 0)
-        if number < 0 or number > most_splits(table, stock, splits, name):
+        most = pieces[name] if table.parts[name] else 0
+        if number < 0 or number > most:
             raise InvalidSplits(name)
+    return pieces
 
 
-def most_splits(table, stock, splits, name):
-    """How many splits the kind can have, given the splits of larger kinds."""
-    if not table.parts[name]:
-        return 0
-    return count_pieces(table, stock, splits, name)
+def count_pieces(table, stock, splits):
+    """The pieces of each kind, whole or split."""
+    pieces = all_numbers(table, stock)
+    for name, number in splits.items():
+        if number != 0:
+            for part in table.parts[name]:
+                pieces[part] += number
+    return pieces
 
 
-def count_pieces(table, stock, splits, name):
-    """The number of pieces of the kind, which depends on splits of larger kinds only."""
-    made = [splits.get(kind, 0) * table.parts[kind].count(name) for kind in table.order]
-    return stock.get(name, 0) + sum(made)
+def count_whole(pieces, splits):
+    """The pieces of each kind that are not split."""
+    return {name: number - splits.get(name, 0) for name, number in pieces.items()}
 
 
-def count_whole(table, stock, splits, name):
-    """The number of pieces of the kind that are not split."""
-    return count_pieces(table, stock, splits, name) - splits.get(name, 0)
+def all_numbers(table, numbers):
+    """A new dict with a number for each kind, also 0, from the largest to the smallest."""
+    return {name: numbers.get(name, 0) for name in table.order}
 
 
-def tidy(table, numbers):
-    """A new dict of the numbers above 0, from the largest kind to the smallest."""
-    return {name: numbers[name] for name in table.order if numbers.get(name, 0) > 0}
+def tidy(numbers):
+    """A new dict of the numbers above 0, in the same order."""
+    return {name: number for name, number in numbers.items() if number > 0}

@@ -1,24 +1,29 @@
 """Many split steps or undo steps at once.
 
-Stocks and splits are valid here. Every function returns new values.
+Stocks and splits are valid here and have a number for every kind. Every
+function returns new values. As long as split steps are left, all larger kinds
+are split as far as they can be; so a pass over the kinds needs only the pieces
+after all possible splits.
 """
 
-from splitstock.checks import count_whole, most_splits
+
+def pieces_after_all(table, stock):
+    """The pieces of each kind when no whole piece has parts any more."""
+    pieces = dict(stock)
+    for name in table.split_kinds:
+        number = pieces[name]
+        if number > 0:
+            for part in table.parts[name]:
+                pieces[part] += number
+    return pieces
 
 
-def split_heavier(table, stock, limit):
-    """The splits if every piece with parts that is heavier than the limit is split."""
-    splits = {}
-    for name in table.order:
-        if table.weights[name] > limit:
-            splits[name] = most_splits(table, stock, splits, name)
-    return splits
-
-
-def count_total(table, stock):
+def count_total(table, final_pieces):
     """The number of splits when no whole piece has parts any more."""
-    # Every weight is at least 1, so the limit 0 spares no kind.
-    return count_splits(split_heavier(table, stock, 0))
+    total = 0
+    for name in table.split_kinds:
+        total += final_pieces[name]
+    return total
 
 
 def count_splits(splits):
@@ -26,34 +31,27 @@ def count_splits(splits):
     return sum(splits.values())
 
 
-def after_split_steps(table, stock, splits, times):
-    """The splits after so many split steps, all of which are possible."""
-    after = {}
+def after_split_steps(table, final_pieces, splits, times):
+    """The splits of each kind after so many split steps, all of which are possible."""
+    after = dict(splits)
     left = times
-    for name in table.order:
-        present = splits.get(name, 0)
-        # A split makes smaller pieces only, so one pass takes each kind at its turn.
-        taken = min(left, most_splits(table, stock, after, name) - present)
-        after[name] = present + taken
-        left = left - taken
+    for name in table.split_kinds:
+        if left == 0:
+            break
+        taken = min(left, final_pieces[name] - after[name])
+        after[name] += taken
+        left -= taken
     return after
 
 
 def after_undo_steps(table, splits, times):
-    """The splits after so many undo steps, all of which are possible."""
-    after = {}
+    """The splits of each kind after so many undo steps, all of which are possible."""
+    after = dict(splits)
     left = times
-    for name in reversed(table.order):
-        present = splits.get(name, 0)
-        taken = min(left, present)
-        after[name] = present - taken
-        left = left - taken
+    for name in reversed(table.split_kinds):
+        if left == 0:
+            break
+        taken = min(left, after[name])
+        after[name] -= taken
+        left -= taken
     return after
-
-
-def heaviest_whole(table, stock, splits):
-    """The weight of the heaviest whole piece, or None if there is no piece."""
-    for name in table.order:
-        if count_whole(table, stock, splits, name) > 0:
-            return table.weights[name]
-    return None

@@ -1,8 +1,8 @@
 """A store that runs split steps and undo steps."""
 
-from splitstock.checks import check_splits, checked_table, count_whole, tidy
+from splitstock.checks import all_numbers, checked_pieces, checked_table, count_pieces, count_whole, tidy
 from splitstock.errors import InvalidNumber, InvalidStep, InvalidStock, TooManySteps
-from splitstock.steps import after_split_steps, after_undo_steps, count_splits, count_total
+from splitstock.steps import after_split_steps, after_undo_steps, count_splits, count_total, pieces_after_all
 
 SPLIT = "split"
 UNDO = "undo"
@@ -14,11 +14,11 @@ class Store:
     def __init__(self, catalogue, stock, splits=None):
         given = {} if splits is None else splits
         table = checked_table(catalogue, stock)
-        check_splits(table, stock, given)
+        checked_pieces(table, stock, given)
         self._table = table
         # Each kind has its number, also 0, so that equal stores have equal dicts.
-        self._stock = {name: stock.get(name, 0) for name in table.order}
-        self._splits = {name: given.get(name, 0) for name in table.order}
+        self._stock = all_numbers(table, stock)
+        self._splits = all_numbers(table, given)
 
     def __eq__(self, other):
         if not isinstance(other, Store):
@@ -32,16 +32,16 @@ class Store:
 
     def splits(self):
         """How many pieces of each kind are split."""
-        return tidy(self._table, self._splits)
+        return tidy(self._splits)
 
     def stock(self):
         """How many pieces of each kind exist before any split."""
-        return tidy(self._table, self._stock)
+        return tidy(self._stock)
 
     def whole(self):
         """How many pieces of each kind are not split."""
-        found = {name: self._whole_of(name) for name in self._table.order}
-        return tidy(self._table, found)
+        pieces = count_pieces(self._table, self._stock, self._splits)
+        return tidy(count_whole(pieces, self._splits))
 
     def number(self):
         """How many pieces are split."""
@@ -49,22 +49,28 @@ class Store:
 
     def next_split(self):
         """The kind that a split step would take, or None."""
-        for name in self._table.order:
-            if self._table.parts[name] and self._whole_of(name) > 0:
+        made = {}
+        for name in self._table.split_kinds:
+            number = self._splits[name]
+            if self._stock[name] + made.get(name, 0) > number:
                 return name
+            if number > 0:
+                for part in self._table.parts[name]:
+                    made[part] = made.get(part, 0) + number
         return None
 
     def next_undo(self):
         """The kind that an undo step would take, or None."""
-        for name in reversed(self._table.order):
+        for name in reversed(self._table.split_kinds):
             if self._splits[name] > 0:
                 return name
         return None
 
     def split(self, times=1):
         """Run that many split steps."""
-        check_times(times, count_total(self._table, self._stock) - self.number())
-        self._splits = after_split_steps(self._table, self._stock, self._splits, times)
+        final_pieces = pieces_after_all(self._table, self._stock)
+        check_times(times, count_total(self._table, final_pieces) - self.number())
+        self._splits = after_split_steps(self._table, final_pieces, self._splits, times)
 
     def undo(self, times=1):
         """Run that many undo steps."""
@@ -74,12 +80,13 @@ class Store:
     def run(self, history):
         """Run all steps of a history, or none of them if it raises."""
         check_history(history)
-        check_possible(history, self.number(), count_total(self._table, self._stock))
+        final_pieces = pieces_after_all(self._table, self._stock)
+        check_possible(history, self.number(), count_total(self._table, final_pieces))
         for step, times in history:
             if step == SPLIT:
-                self.split(times)
+                self._splits = after_split_steps(self._table, final_pieces, self._splits, times)
             else:
-                self.undo(times)
+                self._splits = after_undo_steps(self._table, self._splits, times)
 
     def receive(self, name, number):
         """Add whole pieces to the stock."""
@@ -88,10 +95,6 @@ class Store:
         if number < 0:
             raise InvalidNumber(number)
         self._stock[name] = self._stock[name] + number
-
-    def _whole_of(self, name):
-        """How many pieces of one kind are not split."""
-        return count_whole(self._table, self._stock, self._splits, name)
 
 
 def check_times(times, possible):

@@ -2,56 +2,62 @@
 
 from splitstock.errors import InvalidCatalogue
 
-LETTERS = "abcdefghijklmnopqrstuvwxyz"
 LONGEST_NAME = 8
 
 
 class Table:
-    """The kinds of a valid catalogue: order, weights and parts."""
+    """The kinds of a valid catalogue: weights, order, parts, and which have parts."""
 
     def __init__(self, catalogue):
-        check_catalogue(catalogue)
-        self.order = order_of(catalogue)
-        self.weights = {name: weight for name, weight, parts in catalogue}
+        self.weights = checked_weights(catalogue)
+        self.order = order_of(self.weights)
         # Sorted, so that tables with the same parts in another order are alike.
         self.parts = {name: sorted(parts) for name, weight, parts in catalogue}
+        self.split_kinds = [name for name in self.order if self.parts[name]]
 
 
-def order_of(catalogue):
-    """The names of a valid catalogue from the largest kind to the smallest."""
-    rows = sorted([(-weight, name) for name, weight, parts in catalogue])
-    return [name for negative_weight, name in rows]
+def order_of(weights):
+    """The names from the largest kind to the smallest."""
+    # Names of equal weight stay in string order.
+    return sorted(sorted(weights), key=lambda name: -weights[name])
 
 
-def check_catalogue(catalogue):
-    """Raise InvalidCatalogue for the first invalid entry."""
+def checked_weights(catalogue):
+    """The weight of each name, after the catalogue check.
+
+    It raises InvalidCatalogue for the first invalid entry.
+    """
     if len(catalogue) == 0:
         raise InvalidCatalogue(0)
-    first = first_places(catalogue)
-    for at in range(len(catalogue)):
-        if not is_valid_entry(catalogue, first, at):
+    weights = first_weights(catalogue)
+    seen = set()
+    for at, (name, weight, parts) in enumerate(catalogue):
+        if name in seen or weight < 1 or not is_name(name) or not are_lighter(parts, weight, weights):
             raise InvalidCatalogue(at)
+        seen.add(name)
+    return weights
 
 
-def first_places(catalogue):
-    """The index of the first entry with each name."""
-    first = {}
-    for at, entry in enumerate(catalogue):
-        if entry[0] not in first:
-            first[entry[0]] = at
-    return first
-
-
-def is_valid_entry(catalogue, first, at):
-    """Whether the entry at this index is valid."""
-    name, weight, parts = catalogue[at]
-    if not is_name(name) or first[name] != at or weight < 1:
-        return False
-    return all([part in first and catalogue[first[part]][1] < weight for part in parts])
+def first_weights(catalogue):
+    """The weight of each name, by the first entry that has it."""
+    weights = {}
+    for name, weight, parts in catalogue:
+        if name not in weights:
+            weights[name] = weight
+    return weights
 
 
 def is_name(name):
     """Whether this is a string of one to eight lower-case letters."""
-    if not isinstance(name, str) or not 1 <= len(name) <= LONGEST_NAME:
+    if not isinstance(name, str) or len(name) > LONGEST_NAME:
         return False
-    return all([letter in LETTERS for letter in name])
+    # The empty string is ASCII, but not alphabetic.
+    return name.isascii() and name.isalpha() and name.islower()
+
+
+def are_lighter(parts, weight, weights):
+    """Whether each part is a known name with less than this weight."""
+    for part in parts:
+        if part not in weights or weights[part] >= weight:
+            return False
+    return True
