@@ -4,6 +4,7 @@ It shares no code with the package, so that the tests compare two programs.
 """
 
 import random
+import re
 
 
 class Model:
@@ -131,3 +132,89 @@ def small_cases(seed, count, limit):
         if 0 < total <= limit or (total == 0 and rng.random() < 0.05):
             cases.append((catalogue, stock))
     return cases
+
+
+def single_steps(catalogue, stock, splits):
+    """The possible single steps, each with the splits behind it: (kind of step, name, splits)."""
+    found = []
+    for name, weight, parts in catalogue:
+        model = Model(catalogue, stock, splits)
+        if parts and model.whole[name] > 0:
+            model.split_kind(name)
+            found.append(("split", name, model.tidy(model.splits)))
+        model = Model(catalogue, stock, splits)
+        if model.splits[name] > 0 and all(model.whole[part] >= parts.count(part) for part in parts):
+            model.undo_kind(name)
+            found.append(("undo", name, model.tidy(model.splits)))
+    return found
+
+
+def as_key(splits):
+    """Splits as a key of a dict."""
+    return tuple(sorted((name, number) for name, number in splits.items() if number))
+
+
+def step_graph(catalogue, stock):
+    """All valid splits by their keys, and for each key those behind a single step."""
+    by_key = {as_key(splits): splits for splits in all_splits(catalogue, stock)}
+    graph = {}
+    for key, splits in by_key.items():
+        graph[key] = [as_key(after) for _, _, after in single_steps(catalogue, stock, splits)]
+    return by_key, graph
+
+
+def search(graph, start):
+    """For each key the smallest number of steps from the start, and how many such ways there are."""
+    far, ways, layer = {start: 0}, {start: 1}, [start]
+    while layer:
+        later = []
+        for key in layer:
+            for after in graph[key]:
+                if after not in far:
+                    far[after] = far[key] + 1
+                    ways[after] = 0
+                    later.append(after)
+                if far[after] == far[key] + 1:
+                    ways[after] += ways[key]
+        layer = later
+    return far, ways
+
+
+def model_is_catalogue(catalogue):
+    """Whether a list of entries is a valid catalogue, point [4] word by word."""
+    if not catalogue:
+        return False
+    names = [entry[0] for entry in catalogue]
+    for at, (name, weight, parts) in enumerate(catalogue):
+        if not 1 <= len(name) <= 8 or set(name) - set("abcdefghijklmnopqrstuvwxyz"):
+            return False
+        if name in names[:at] or weight < 1:
+            return False
+        for part in parts:
+            if part not in names or catalogue[names.index(part)][1] >= weight:
+                return False
+    return True
+
+
+def model_read_numbers(text):
+    """The dict of numbers that has this text, or None; by patterns."""
+    if text == "-":
+        return {}
+    if not re.fullmatch("[a-z]{1,8}:[1-9][0-9]{0,59}( [a-z]{1,8}:[1-9][0-9]{0,59})*", text):
+        return None
+    pairs = re.findall("([a-z]+):([0-9]+)", text)
+    names = [name for name, digits in pairs]
+    if names != sorted(set(names)):
+        return None
+    return {name: int(digits) for name, digits in pairs}
+
+
+def model_read_catalogue(text):
+    """The valid catalogue that has this text, or None; by patterns."""
+    entry = "[a-z]{1,8} [1-9][0-9]{0,59}( [a-z]{1,8})*"
+    if not re.fullmatch(f"{entry}(, {entry})*", text):
+        return None
+    catalogue = []
+    for name, digits, parts in re.findall("([a-z]+) ([0-9]+)((?: [a-z]+)*)", text):
+        catalogue.append((name, int(digits), parts.split()))
+    return catalogue if model_is_catalogue(catalogue) else None

@@ -6,7 +6,7 @@ import pathlib
 import unittest
 
 import splitstock
-from splitstock import balance, catalogues, stores
+from splitstock import balance, catalogues, counting, readings, stores, texts, ways
 from splitstock.errors import TooManySteps
 from tests.cases import expect
 
@@ -19,6 +19,15 @@ FUNCTIONS = [
     (balance, "displacement", ["catalogue", "stock", "splits"]),
     (balance, "heaviest", ["catalogue", "stock", "number"]),
     (balance, "splits_for", ["catalogue", "stock", "limit"]),
+    (ways, "distance", ["catalogue", "stock", "first", "second"]),
+    (ways, "way", ["catalogue", "stock", "first", "second"]),
+    (ways, "count_ways", ["catalogue", "stock", "first", "second"]),
+    (counting, "count_states", ["catalogue", "stock"]),
+    (counting, "states", ["catalogue", "stock", "number"]),
+    (texts, "show_numbers", ["numbers"]),
+    (texts, "show_catalogue", ["catalogue"]),
+    (readings, "read_numbers", ["text"]),
+    (readings, "read_catalogue", ["text"]),
 ]
 
 METHODS = [
@@ -52,14 +61,16 @@ class NamesTest(unittest.TestCase):
                 method = vars(stores.Store)[name]
                 self.assertEqual(list(inspect.signature(method).parameters), names)
 
-    def test_package_imports_only_itself(self):
+    def test_package_imports_only_itself_and_binomials(self):
         folder = pathlib.Path(splitstock.__file__).parent
         for path in folder.glob("*.py"):
             for node in ast.walk(ast.parse(path.read_text())):
                 with self.subTest(path.name):
                     self.assertNotIsInstance(node, ast.Import)
                     if isinstance(node, ast.ImportFrom):
-                        self.assertTrue(node.module.startswith("splitstock."))
+                        names = [alias.name for alias in node.names]
+                        if (node.module, names) != ("math", ["comb"]):
+                            self.assertTrue(node.module.startswith("splitstock."))
 
 
 class ExamplesTest(unittest.TestCase):
@@ -117,6 +128,43 @@ class ExamplesTest(unittest.TestCase):
         from splitstock.balance import splits_for
         found = splits_for([('c', 1, []), ('s', 3, ['c', 'c']), ('m', 6, ['s', 's'])], {'m': 2, 's': 1}, 2)
         self.assertEqual(repr(found), "7")
+
+    def test_distance(self):
+        from splitstock.ways import distance
+        catalogue = [('a', 9, ['x', 'u']), ('b', 8, ['x', 'v']), ('x', 5, ['c', 'c']), ('u', 4, []), ('v', 3, []), ('c', 2, [])]
+        found = distance(catalogue, {'a': 1, 'b': 1}, {'a': 1, 'x': 1}, {'b': 1, 'x': 1})
+        self.assertEqual(repr(found), "2")
+
+    def test_way(self):
+        from splitstock.ways import way
+        catalogue = [('a', 9, ['x', 'u']), ('b', 8, ['x', 'v']), ('x', 5, ['c', 'c']), ('u', 4, []), ('v', 3, []), ('c', 2, [])]
+        found = way(catalogue, {'a': 1, 'b': 1}, {'a': 1, 'x': 1}, {'b': 1, 'x': 1})
+        self.assertEqual(repr(found), "[('split', 'b', 1), ('undo', 'a', 1)]")
+
+    def test_count_ways(self):
+        from splitstock.ways import count_ways
+        found = count_ways([('c', 1, []), ('s', 3, ['c', 'c']), ('m', 6, ['s', 's'])], {'m': 1, 's': 1}, {}, {'m': 1, 's': 1})
+        self.assertEqual(repr(found), "2")
+
+    def test_count_states(self):
+        from splitstock.counting import count_states
+        found = count_states([('c', 1, []), ('s', 3, ['c', 'c']), ('m', 6, ['s', 's'])], {'m': 1, 's': 1})
+        self.assertEqual(repr(found), "6")
+
+    def test_states(self):
+        from splitstock.counting import states
+        found = states([('c', 1, []), ('s', 3, ['c', 'c']), ('m', 6, ['s', 's'])], {'m': 1, 's': 1}, 2)
+        self.assertEqual(repr(found), "[{'m': 1, 's': 1}]")
+
+    def test_show_numbers(self):
+        from splitstock.texts import show_numbers
+        found = show_numbers({'s': 2, 'm': 10, 'c': 0})
+        self.assertEqual(repr(found), "'m:10 s:2'")
+
+    def test_read_catalogue(self):
+        from splitstock.readings import read_catalogue
+        found = read_catalogue('c 1, s 3 c c')
+        self.assertEqual(repr(found), "[('c', 1, []), ('s', 3, ['c', 'c'])]")
 
 
 if __name__ == "__main__":
