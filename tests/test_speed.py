@@ -37,6 +37,8 @@ def work(call, *args):
         return trace
 
     before = sys.gettrace()
+    # Python 3.12 traces operations only if some frame asks for it beforehand.
+    sys._getframe().f_trace_opcodes = True
     sys.settrace(trace)
     try:
         call(*args)
